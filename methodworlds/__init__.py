@@ -1,0 +1,1 @@
+"""Methodworlds: tasks that break down, in one world and in all worlds."""

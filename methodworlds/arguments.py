@@ -1,0 +1,31 @@
+"""The arguments that many functions share, by the places at which these functions take them."""
+
+from methodworlds.books import Book
+from methodworlds.errors import BadValue
+from methodworlds.kinds import are_ascending_numbers, is_number
+from methodworlds.worlds import World
+
+
+def need_fitting(book, world):
+    """Places 1 and 2: a book and a world that fits it."""
+    if not isinstance(book, Book):
+        raise BadValue(1)
+    if not isinstance(world, World):
+        raise BadValue(2)
+    if world.facts != book.facts or world.deeds != book.deeds:
+        raise BadValue(2)
+
+
+def need_start(book, world, task, state):
+    """Places 1 to 4: a book, a world that fits it, a task and a state."""
+    need_fitting(book, world)
+    if not is_number(task, len(book.tasks)):
+        raise BadValue(3)
+    if not is_number(state, len(world)):
+        raise BadValue(4)
+
+
+def need_wanted(world, wanted):
+    """Place 5: wanted states."""
+    if not are_ascending_numbers(wanted, len(world)):
+        raise BadValue(5)
