@@ -1,6 +1,6 @@
 """The arguments that many functions share, by the places at which these functions take them."""
 
-from methodworlds.books import Book
+from methodworlds.books import Book, is_tails
 from methodworlds.errors import BadValue
 from methodworlds.kinds import are_ascending_numbers, is_number
 from methodworlds.worlds import World
@@ -29,3 +29,18 @@ def need_wanted(world, wanted):
     """Place 5: wanted states."""
     if not are_ascending_numbers(wanted, len(world)):
         raise BadValue(5)
+
+
+def need_task(book, task):
+    """Places 1 and 2: a book and a task."""
+    if not isinstance(book, Book):
+        raise BadValue(1)
+    if not is_number(task, len(book.tasks)):
+        raise BadValue(2)
+
+
+def need_tails(book, task):
+    """Places 1 and 2: a book with tails only and a task."""
+    if not is_tails(book):
+        raise BadValue(1)
+    need_task(book, task)

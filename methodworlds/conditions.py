@@ -17,3 +17,8 @@ def is_condition(value, facts):
 def holds(condition, facts):
     """Whether each fact of the condition is as wanted among the facts."""
     return all([facts[fact] == wanted for fact, wanted in condition])
+
+
+def every_facts(facts):
+    """All ways in which so many facts may hold; in number i of them fact j holds if bit j of i is 1."""
+    return [[at >> fact & 1 == 1 for fact in range(facts)] for at in range(1 << facts)]

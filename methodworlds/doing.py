@@ -42,4 +42,5 @@ def plan(book, world, task, state, wanted):
     if not [end for end in members(table[task, state]) if end in wanted]:
         return ("table", tuple([(*pair, tuple(members(table[pair]))) for pair in sorted(list(table))]))
     search = Search(book, world, list(table))
-    return ("way", search.proof(search.seek((task, state), wanted)))
+    last = search.seek((task, state), wanted)
+    return ("way", search.parts(search.needed([last])))

@@ -50,6 +50,10 @@ class Search:
                 self.hand_on(deeds, (task, state, at))
         return None
 
+    def seek_all(self):
+        """Find all entries."""
+        self.seek(None, ())
+
     def go_on(self, deeds, place, named):
         """Do the next step of a place."""
         task, state, method, done, at = place
@@ -69,14 +73,17 @@ class Search:
         for sofar, (task, state, method, done, _), named in self.waiting[pair]:
             self.put(sofar + deeds, (task, state, method, done + 1, end), (*named, entry))
 
-    def proof(self, last):
-        """The parts that an entry needs, it itself as the last one."""
-        needed = {last: True}
+    def needed(self, lasts):
+        """The entries of the parts that a proof of the entries told needs, each one behind those that it names."""
+        wanted = {entry: True for entry in lasts}
         for entry in reversed(list(self.found)):
-            if entry in needed:
+            if entry in wanted:
                 for other in self.found[entry][1]:
-                    needed[other] = True
-        order = [entry for entry in self.found if entry in needed]
+                    wanted[other] = True
+        return [entry for entry in self.found if entry in wanted]
+
+    def parts(self, order):
+        """The parts of the entries, in this order."""
         numbers = {entry: at for at, entry in enumerate(order)}
         parts = []
         for entry in order:

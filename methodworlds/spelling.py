@@ -9,16 +9,17 @@ class Spelling:
     The marks reached are those of the methods that are begun in that very state, at which the row has just been done.
     """
 
-    def __init__(self, book, world):
+    def __init__(self, book, states):
+        """States tell which facts hold in them."""
         self.marks = Marks(book)
-        self.world = world
+        self.states = states
         self.reached = {}
         self.done = {}
 
     def spell(self, deeds, path):
         """Take a row of deeds along a path of states; all shorter rows from these states were taken ahead."""
         start = path[0]
-        found = self.opened(deeds, path) if deeds else self.marks.begun(self.world.states[start])
+        found = self.opened(deeds, path) if deeds else self.marks.begun(self.states[start])
         more = self.widened(deeds, path, found)
         while more != found:
             found = more
@@ -68,7 +69,7 @@ def longer(world, lines):
 
 def spelled(book, world, state, most):
     """The Spelling of all rows of at most so many deeds from the state, and of all that stands in them."""
-    spelling = Spelling(book, world)
+    spelling = Spelling(book, world.states)
     left = deeds_left(world, state, most)
     lines = {start: [((), (start,))] for start in left}
     for length in range(most + 1):
@@ -77,3 +78,12 @@ def spelled(book, world, state, most):
                 spelling.spell(deeds, path)
         lines = {start: longer(world, lines[start]) for start in lines if left[start] > length}
     return spelling
+
+
+def is_spelled(book, task, facts, deeds):
+    """Whether the task can be done with just these deeds in a world that is a line of states with these facts."""
+    spelling = Spelling(book, facts)
+    for length in range(len(deeds) + 1):
+        for start in range(len(facts) - length):
+            spelling.spell(deeds[start:start + length], tuple(range(start, start + length + 1)))
+    return task in spelling.done[0, deeds]

@@ -1,7 +1,7 @@
 """Worlds: states with their facts, and what each deed leads to."""
 
 from methodworlds.books import Book, MOST_DEEDS, MOST_FACTS
-from methodworlds.conditions import holds, is_condition
+from methodworlds.conditions import every_facts, holds, is_condition
 from methodworlds.errors import BadState, BadValue
 from methodworlds.kinds import are_ascending_numbers, are_facts, is_between, is_number, is_row, plain
 from methodworlds.strings import is_string
@@ -99,7 +99,7 @@ def facts_world(facts, deeds):
         raise BadValue(1)
     if not is_row(deeds, 1, MOST_DEEDS) or not all([is_deed_rule(rule, facts) for rule in deeds]):
         raise BadValue(2)
-    states = [[at >> fact & 1 == 1 for fact in range(facts)] for at in range(1 << facts)]
+    states = every_facts(facts)
     moves = []
     for held in states:
         moves.append([states.index(changed(held, rule)) if holds(rule[0], held) else None for rule in deeds])

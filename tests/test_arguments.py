@@ -1,11 +1,15 @@
-"""Points [12], [16] and [22] to [29]: wrong arguments of the functions with a book and a world, and their order."""
+"""Points [12], [16], [22] to [32], [34] and [37]: wrong arguments of the functions with a book, and their order."""
 
 import unittest
 from itertools import combinations, product
 
 from methodworlds.books import Book
+from methodworlds.checking import table_holds, unrolled, way_holds
+from methodworlds.counting import ways
 from methodworlds.doing import courses, ends, is_entry, plan
 from methodworlds.errors import BadValue
+from methodworlds.machines import accepts, normal
+from methodworlds.sticking import stuck, stuck_holds
 from methodworlds.worlds import World
 
 BIG = 10 ** 300
@@ -32,14 +36,44 @@ BAD_WANTED = (
 )
 BAD_MOST = (*NO_INTEGERS, -1, 6, BIG, -BIG)
 
+DEEP = 0
+for _ in range(39):
+    DEEP = [DEEP]
+# Values that are no proof, no table, nothing that leads to where one is stuck, and no string.
+ANY = (
+    *(None, True, False, 0, 1, -1, BIG, -BIG, "", "()", "x" * 60000, DEEP, (DEEP,), (DEEP, DEEP), (0, 0, DEEP)),
+    *([0] * 20000, [()] * 19000, [[0, 0, 0]] * 5000, [[0, 0, 0, 0, []]] * 3000, (0,), ((), 0), (0, ()), ((), (), ())),
+    *(((),), [[]], (None, None), ((None,), ()), ((), (None,)), (("",), ()), ((0,), (0,)), (((),), ()), (((),), ((),))),
+    *((((True, 0, 0),),), (((0, True, ()),),), ((0, 0, 0, 0, 0),), (((0, 0, 0, 0, ()),),)),
+)
+BAD_DEEDS = (*NO_INTEGERS, -1, 13, BIG, -BIG)
+# Sequences that are no proofs of at least one part that are all right, and other values.
+PART = (1, 0, 2, 0, ())
+BAD_PROOFS = (
+    *(None, 0, True, "", "proof", (), [], PART, (None,), ((),), (PART[:4],), ((*PART, ()),)),
+    *([PART, None], (PART, (0, 0, 2, 0, ())), (PART, (0, 0, 2, 0, (1,)))),
+)
+NO_TAILS = Book(1, 2, ((((), (("task", 1),)),), (((), (("task", 0), ("deed", 1))),), ()))
+
+START = {"book": (BOOK, BAD_BOOKS), "world": (WORLD, BAD_WORLDS)}
+SPOT = {**START, "task": (0, BAD_TASKS), "state": (0, BAD_STATES)}
+AIM = {**SPOT, "wanted": ((2,), BAD_WANTED)}
+
 # For each function its arguments by names, each with one that is right and with wrong ones.
 CALLS = (
-    (ends, {"task": (0, BAD_TASKS), "state": (0, BAD_STATES)}),
-    (courses, {"task": (0, BAD_TASKS), "state": (0, BAD_STATES), "most": (5, BAD_MOST)}),
-    (plan, {"task": (0, BAD_TASKS), "state": (0, BAD_STATES), "wanted": ((2,), BAD_WANTED)}),
-    (is_entry, {"value": ((0, 0, 0), ())}),
+    (is_entry, {**START, "value": ((0, 0, 0), ())}),
+    (ends, SPOT),
+    (courses, {**SPOT, "most": (5, BAD_MOST)}),
+    (plan, AIM),
+    (way_holds, {**AIM, "proof": ((PART, (0, 0, 2, 0, (0,))), ())}),
+    (unrolled, {**START, "proof": ((PART,), BAD_PROOFS)}),
+    (table_holds, {**AIM, "table": ((), ())}),
+    (stuck, SPOT),
+    (stuck_holds, {**SPOT, "value": ((), ())}),
+    (ways, {**AIM, "deeds": (12, BAD_DEEDS)}),
+    (accepts, {"book": (BOOK, BAD_BOOKS), "task": (0, BAD_TASKS), "string": ((((True,),), ()), ())}),
+    (normal, {"book": (BOOK, (*BAD_BOOKS, NO_TAILS)), "task": (0, BAD_TASKS)}),
 )
-START = {"book": (BOOK, BAD_BOOKS), "world": (WORLD, BAD_WORLDS)}
 
 
 class TestArguments(unittest.TestCase):
@@ -52,8 +86,7 @@ class TestArguments(unittest.TestCase):
         self.assertEqual(caught.exception.at, at, (call, arguments))
 
     def each_call(self):
-        for call, told in CALLS:
-            choices = {**START, **told}
+        for call, choices in CALLS:
             yield call, {name: good for name, (good, _) in choices.items()}, list(choices.items())
 
     def test_right(self):
@@ -75,6 +108,22 @@ class TestArguments(unittest.TestCase):
     def test_all_wrong(self):
         self.refuse(1, plan, {"book": None, "world": None, "task": None, "state": None, "wanted": None})
         self.refuse(2, plan, {"book": BOOK, "world": BAD_WORLDS[-1], "task": 9, "state": 9, "wanted": 9})
+        nothing = {"book": BOOK, "world": WORLD, "task": None, "state": None, "wanted": None}
+        self.refuse(3, way_holds, {**nothing, "proof": None})
+        self.refuse(4, table_holds, {**nothing, "task": 0, "table": None})
+        self.refuse(5, ways, {**nothing, "task": 0, "state": 0, "deeds": None})
+
+    def test_values_of_any_kind_are_no_errors(self):
+        for value in ANY:
+            self.assertIs(is_entry(BOOK, WORLD, value), False)
+            self.assertIs(way_holds(BOOK, WORLD, 0, 0, (2,), value), False)
+            self.assertIs(table_holds(BOOK, WORLD, 0, 0, (), value), False)
+            self.assertIs(stuck_holds(BOOK, WORLD, 0, 1, value), False)
+            self.assertIs(accepts(BOOK, 0, value), False)
+
+    def test_tails_are_asked_of_the_whole_book_and_by_normal_alone(self):
+        self.refuse(1, normal, {"book": NO_TAILS, "task": 2})
+        self.assertIs(accepts(NO_TAILS, 0, (((True,),), ())), False)
 
     def test_task_goes_by_the_book_and_state_by_the_world(self):
         for task, state in product(range(3), range(4)):

@@ -17,6 +17,17 @@ FUNCTIONS = {
         "courses": ["book", "world", "task", "state", "most"],
         "plan": ["book", "world", "task", "state", "wanted"],
     },
+    "checking": {
+        "way_holds": ["book", "world", "task", "state", "wanted", "proof"],
+        "unrolled": ["book", "world", "proof"],
+        "table_holds": ["book", "world", "task", "state", "wanted", "table"],
+    },
+    "sticking": {
+        "stuck": ["book", "world", "task", "state"],
+        "stuck_holds": ["book", "world", "task", "state", "value"],
+    },
+    "counting": {"ways": ["book", "world", "task", "state", "wanted", "deeds"]},
+    "machines": {"accepts": ["book", "task", "string"], "normal": ["book", "task"]},
 }
 
 CLASSES = {
