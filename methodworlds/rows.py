@@ -53,7 +53,8 @@ class Rows:
         found = {row: True for row in rows}
         waiting = list(rows)
         while waiting:
-            for row in self.replacing(waiting.pop(), taken):
+            here = waiting.pop()
+            for row in self.replacing(here, taken):
                 if row not in found:
                     found[row] = True
                     waiting.append(row)

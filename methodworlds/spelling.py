@@ -9,17 +9,17 @@ class Spelling:
     The marks reached are those of the methods that are begun in that very state, at which the row has just been done.
     """
 
-    def __init__(self, book, states):
-        """States tell which facts hold in them."""
+    def __init__(self, book, held):
+        """Held tells for each state which facts hold there."""
         self.marks = Marks(book)
-        self.states = states
+        self.held = held
         self.reached = {}
         self.done = {}
 
     def spell(self, deeds, path):
         """Take a row of deeds along a path of states; all shorter rows from these states were taken ahead."""
         start = path[0]
-        found = self.opened(deeds, path) if deeds else self.marks.begun(self.states[start])
+        found = self.opened(deeds, path) if deeds else self.marks.begun(self.held[start])
         more = self.widened(deeds, path, found)
         while more != found:
             found = more

@@ -192,6 +192,26 @@ class TestLanguage(unittest.TestCase):
         for where, node in self.nodes(ast.Attribute):
             self.assertIn(node.attr, assigned | self.own | METHODS | DUNDERS, where)
 
+    def test_l5_properties(self):
+        """No attribute is assigned that has the name of a property."""
+        properties = [node.name for _, node in self.nodes(ast.FunctionDef) if node.decorator_list]
+        for where, node in self.nodes(ast.Attribute):
+            if not isinstance(node.ctx, ast.Load):
+                self.assertNotIn(node.attr, properties, where)
+
+    def test_l23_loops(self):
+        """What stands in the head of a loop is not changed in the loop by a method of builtin values or an item."""
+        changing = ("append", "clear", "extend", "insert", "pop", "remove", "reverse", "setdefault", "update")
+        for where, loop in self.nodes(ast.For):
+            if ast.unparse(loop.iter).startswith(("list(", "reversed(list(", "sorted(")):
+                continue
+            head = [ast.unparse(node) for node in ast.walk(loop.iter) if isinstance(node, (ast.Name, ast.Attribute))]
+            for node in [each for row in loop.body for each in ast.walk(row)]:
+                if isinstance(node, ast.Attribute) and node.attr in changing:
+                    self.assertNotIn(ast.unparse(node.value), head, where)
+                if isinstance(node, ast.Subscript) and not isinstance(node.ctx, ast.Load):
+                    self.assertNotIn(ast.unparse(node.value), head, where)
+
     def test_l19_errors(self):
         for where, node in self.nodes(ast.Raise):
             self.assertTrue(node.exc is None or isinstance(node.exc, ast.Call), where)
