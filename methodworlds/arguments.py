@@ -44,3 +44,14 @@ def need_tails(book, task):
     if not is_tails(book):
         raise BadValue(1)
     need_task(book, task)
+
+
+def need_alike(first, task, second, other):
+    """Places 1 to 4: two books with tails only, with as many facts and deeds, each with a task behind it."""
+    need_tails(first, task)
+    if not isinstance(second, Book) or not is_tails(second):
+        raise BadValue(3)
+    if second.facts != first.facts or second.deeds != first.deeds:
+        raise BadValue(3)
+    if not is_number(other, len(second.tasks)):
+        raise BadValue(4)

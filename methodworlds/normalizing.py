@@ -6,11 +6,14 @@ def target(told, to):
     return told[-1 if to is None else to]
 
 
+def with_nowhere(nodes):
+    """The nodes, and behind them one that accepts nothing: to lead nowhere is to lead to it."""
+    return [*nodes, tuple([(False, (None,) * len(leads)) for _, leads in nodes[0]])]
+
+
 def kinds_of(nodes):
     """For each node its kind: two nodes are of one kind if they accept the same endings. The last kind is for none."""
-    # To lead nowhere is to lead to a node that accepts nothing.
-    nowhere = tuple([(False, (None,) * len(leads)) for _, leads in nodes[0]])
-    every = [*nodes, nowhere]
+    every = with_nowhere(nodes)
     kinds = [0] * len(every)
     many = 0
     while True:

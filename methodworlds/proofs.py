@@ -54,3 +54,13 @@ def are_right(book, world, proof):
         if not is_right(book, world, proof, at):
             return False
     return True
+
+
+def count_deeds(book, proof):
+    """How many deeds the last part of a proof has whose parts are all right."""
+    counts = []
+    for task, _, _, method, places in proof:
+        steps = book.tasks[task][method][1]
+        own = len([number for word, number in steps if word == "deed"])
+        counts.append(own + sum([counts[place] for place in places]))
+    return counts[-1]

@@ -3,7 +3,7 @@
 from itertools import chain, combinations, product
 from random import Random
 
-from methodworlds.books import Book
+from methodworlds.books import Book, is_tails
 from methodworlds.worlds import World
 
 
@@ -437,6 +437,102 @@ def same_strings(one, other):
     return True
 
 
+def fewest_deeds_apart(one, other, first_only=False):
+    """How many deeds a shortest string has that tells two machines apart, looked for length by length; None for none.
+
+    Where first_only is so, it is the first machine that is to accept the string.
+    """
+    nothing = tuple((False, (None,) * len(leads)) for _, leads in one[0])
+    layer, seen = {(0, 0)}, set()
+    many = 0
+    while not layer <= seen:
+        seen |= layer
+        behind = set()
+        for first, second in layer:
+            left = nothing if first is None else one[first]
+            right = nothing if second is None else other[second]
+            for (ends, leads), (other_ends, other_leads) in zip(left, right):
+                if ends > other_ends or ends < other_ends and not first_only:
+                    return many
+                behind |= set(zip(leads, other_leads))
+        layer = behind
+        many += 1
+    return None
+
+
+def slow_own(book, which):
+    """The own methods of a task, ascending."""
+    tasks = [which]
+    for one in tasks:
+        for _, steps in book.tasks[one]:
+            tasks.extend(number for word, number in steps if word == "task" and number not in tasks)
+    return [(one, at) for one in sorted(set(tasks)) for at in range(len(book.tasks[one]))]
+
+
+def slow_alone(book, which, choice):
+    """The machine of the sets of a task with these of its own methods alone."""
+    gone = set(slow_own(book, which)) - set(choice)
+    tasks = [[each for at, each in enumerate(methods) if (one, at) not in gone]
+             for one, methods in enumerate(book.tasks)]
+    return slow_sets(Book(book.facts, book.deeds, tasks), which)[0]
+
+
+def slow_needless(book, which):
+    whole = slow_sets(book, which)[0]
+    found = []
+    for one, methods in enumerate(book.tasks):
+        for at in range(len(methods)):
+            tasks = [*book.tasks[:one], (*methods[:at], *methods[at + 1:]), *book.tasks[one + 1:]]
+            if same_strings(whole, slow_sets(Book(book.facts, book.deeds, tasks), which)[0]):
+                found.append((one, at))
+    return tuple(found)
+
+
+def slow_fewest(book, which):
+    """All choices of as few own methods as can be."""
+    whole = slow_sets(book, which)[0]
+    for many in range(len(slow_own(book, which)) + 1):
+        found = [choice for choice in combinations(slow_own(book, which), many)
+                 if same_strings(whole, slow_alone(book, which, choice))]
+        if found:
+            return found
+
+
+def is_slow_string(book, value):
+    if not is_list(value) or len(value) != 2 or not is_list(value[0]) or not is_list(value[1]):
+        return False
+    facts, deeds = value
+    if len(facts) != len(deeds) + 1 or not all(is_whole(each, book.deeds) for each in deeds):
+        return False
+    return all(is_list(each) and len(each) == book.facts and all(type(held) is bool for held in each) for each in facts)
+
+
+def are_places(value):
+    return is_list(value) and all(is_list(each) and len(each) == 2 and type(each[0]) is type(each[1]) is int
+                                  for each in value)
+
+
+def slow_fewest_holds(book, which, kept, proofs):
+    own = slow_own(book, which)
+    if not are_places(kept) or not is_list(proofs):
+        return False
+    pairs = [tuple(pair) for pair in kept]
+    whole = slow_sets(book, which)[0]
+    if pairs != [pair for pair in own if pair in pairs] or not same_strings(whole, slow_alone(book, which, pairs)):
+        return False
+    choices = list(combinations(own, len(pairs) - 1)) if pairs else []
+    if len(proofs) != len(choices):
+        return False
+    for choice, proof in zip(choices, proofs):
+        if not is_list(proof) or len(proof) != 2 or not are_places(proof[0]) or not is_slow_string(book, proof[1]):
+            return False
+        if tuple(tuple(pair) for pair in proof[0]) != choice or not machine_accepts(whole, proof[1]):
+            return False
+        if machine_accepts(slow_alone(book, which, choice), proof[1]):
+            return False
+    return True
+
+
 def rooted(machine, at):
     """The machine with another first node, the numbers being exchanged."""
     def number(to):
@@ -500,6 +596,34 @@ def tails_cases(many, seed, most_tasks=4):
     random = Random(seed)
     for _ in range(many):
         yield random_tails(random, random.randint(0, 2), random.randint(1, 3), random.randint(1, most_tasks))
+
+
+def near(random, book):
+    """A book with tails only that is like the book but for one change, which need not be one that matters."""
+    while True:
+        tasks = [list(methods) for methods in book.tasks]
+        which = random.randrange(len(tasks))
+        methods = tasks[which]
+        at = random.randrange(len(methods)) if methods else 0
+        turn = random.randrange(6) if methods else 0
+        if turn == 0:
+            methods.insert(at, method(deed(random.randrange(book.deeds)), when=random_condition(random, book.facts)))
+        elif turn == 1:
+            del methods[at]
+        elif turn == 2:
+            methods.insert(random.randint(0, len(methods)), methods[at])
+        elif turn == 3:
+            methods.reverse()
+        elif turn == 4:
+            methods[at] = (random_condition(random, book.facts), methods[at][1])
+        else:
+            steps = list(methods[at][1])
+            steps.insert(random.randint(0, len(steps)), random.choice((deed(0), task(random.randrange(len(tasks))))))
+            methods[at] = (methods[at][0], tuple(steps))
+        if len(methods) <= 5 and all(len(steps) <= 5 for _, steps in methods):
+            new = Book(book.facts, book.deeds, tasks)
+            if is_tails(new):
+                return new
 
 
 def spoiled(random, value):

@@ -1,16 +1,20 @@
-"""Points [12], [16], [22] to [32], [34] and [37]: wrong arguments of the functions with a book, and their order."""
+"""Points [12], [14] to [17] and [22] to [50]: wrong arguments, alone and two at once, and their order."""
 
 import unittest
 from itertools import combinations, product
 
-from methodworlds.books import Book
+from methodworlds.books import Book, is_tails, without
 from methodworlds.checking import table_holds, unrolled, way_holds
+from methodworlds.comparing import apart, same, within
+from methodworlds.console import Console
 from methodworlds.counting import ways
 from methodworlds.doing import courses, ends, is_entry, plan
 from methodworlds.errors import BadValue
 from methodworlds.machines import accepts, normal
+from methodworlds.reducing import fewest, fewest_holds, needless
 from methodworlds.sticking import stuck, stuck_holds
-from methodworlds.worlds import World
+from methodworlds.texts import parse, printed
+from methodworlds.worlds import World, facts_world, world_of
 
 BIG = 10 ** 300
 BOOK = Book(1, 2, (((((0, True),), (("task", 1),)),), (((), (("deed", 1),)),), ()))
@@ -55,9 +59,41 @@ BAD_PROOFS = (
 )
 NO_TAILS = Book(1, 2, ((((), (("task", 1),)),), (((), (("task", 0), ("deed", 1))),), ()))
 
+NO_SEQUENCES = (None, True, False, 0, 1, -BIG, "", "a", "0", BOOK, WORLD)
+BAD_FACTS = (*NO_INTEGERS, -1, 5, BIG, -BIG)
+BAD_DEED_NUMBERS = (*NO_INTEGERS, -1, 0, 6, BIG, -BIG)
+BAD_PAIRS = (
+    *NO_SEQUENCES,
+    *((0, 0), ((0, 1),), ((2, 0),), ((3, 0),), ((-1, 0),), ((0, -1),), ((False, 0),), ((0, False),), ((0,),), (None,)),
+    *(((0, 0), (0, 0)), ((1, 0), (0, 0)), [[0, 0], [0, 0]], ((0, 0), (1, 0), (0, 0)), ((0, 0, 0),), ("00",)),
+    ((BIG, 0),),
+)
+BAD_STRINGS = (
+    *(None, 0, True, "", (), ((), ()), (((True,),), (0,)), (((1,),), ()), (((True,), (True,)), (2,)), ((True,), ())),
+    *((((True,),), (), ()), ((("1",),), ()), (((True,),) * 17, (0,) * 16), (((True,), (True,)), (False,)), BOOK),
+)
+BAD_RULES = (
+    *(*NO_SEQUENCES, (), [], (((), (), ()),) * 6, ((),), (((), ()),), (None,), (((), (0,), (0,)),), (((), (1,), ()),)),
+    *((((), (), (1,)),), ((((0, 1),), (), ()),), ((((1, True),), (), ()),), (((), (0, 0), ()),), (((), 0, ()),)),
+)
+NO_STRINGS = (None, True, False, 0, BIG, (), [], ("",), ["book 0 1\ntask\n"], BOOK, WORLD)
+
+# Books that are no second ones for BOOK: not tails only, and with more and fewer facts and deeds.
+BAD_SECONDS = (*BAD_BOOKS, NO_TAILS, *[Book(facts, deeds, ((),)) for facts, deeds in ((0, 2), (2, 2), (1, 1), (1, 3))])
+
+
+def replayed(log):
+    return Console.replayed(log).log()
+
+
 START = {"book": (BOOK, BAD_BOOKS), "world": (WORLD, BAD_WORLDS)}
 SPOT = {**START, "task": (0, BAD_TASKS), "state": (0, BAD_STATES)}
 AIM = {**SPOT, "wanted": ((2,), BAD_WANTED)}
+MACHINE = {"book": (BOOK, (*BAD_BOOKS, NO_TAILS)), "task": (0, BAD_TASKS)}
+PAIR = {
+    "first": (BOOK, (*BAD_BOOKS, NO_TAILS)), "task": (0, BAD_TASKS),
+    "second": (BOOK, BAD_SECONDS), "other": (1, BAD_TASKS),
+}
 
 # For each function its arguments by names, each with one that is right and with wrong ones.
 CALLS = (
@@ -72,7 +108,25 @@ CALLS = (
     (stuck_holds, {**SPOT, "value": ((), ())}),
     (ways, {**AIM, "deeds": (12, BAD_DEEDS)}),
     (accepts, {"book": (BOOK, BAD_BOOKS), "task": (0, BAD_TASKS), "string": ((((True,),), ()), ())}),
-    (normal, {"book": (BOOK, (*BAD_BOOKS, NO_TAILS)), "task": (0, BAD_TASKS)}),
+    (normal, MACHINE),
+    (same, PAIR),
+    (apart, PAIR),
+    (within, PAIR),
+    (needless, MACHINE),
+    (fewest, MACHINE),
+    (fewest_holds, {**MACHINE, "kept": ((), ()), "proofs": ((), ())}),
+    (Book, {"facts": (0, BAD_FACTS), "deeds": (1, BAD_DEED_NUMBERS), "tasks": (((),), (*NO_SEQUENCES, (), ((),) * 7))}),
+    (is_tails, {"book": (BOOK, BAD_BOOKS)}),
+    (without, {"book": (BOOK, BAD_BOOKS), "methods": (((0, 0),), BAD_PAIRS)}),
+    (World, {
+        "facts": (0, BAD_FACTS), "states": (((),), (*NO_SEQUENCES[:-1], (), ((),) * 17)),
+        "moves": (((0,),), (*NO_SEQUENCES, (), ((0,),) * 2)),
+    }),
+    (facts_world, {"facts": (1, BAD_FACTS), "deeds": ((((), (0,), ()),), BAD_RULES)}),
+    (world_of, {"book": (BOOK, BAD_BOOKS), "string": ((((True,),), ()), BAD_STRINGS)}),
+    (printed, {"value": (BOOK, BAD_BOOKS[:-1])}),
+    (parse, {"text": ("book 0 1\ntask\n", NO_STRINGS)}),
+    (replayed, {"log": ("show a\n", NO_STRINGS)}),
 )
 
 
@@ -120,9 +174,12 @@ class TestArguments(unittest.TestCase):
             self.assertIs(table_holds(BOOK, WORLD, 0, 0, (), value), False)
             self.assertIs(stuck_holds(BOOK, WORLD, 0, 1, value), False)
             self.assertIs(accepts(BOOK, 0, value), False)
+            self.assertIs(fewest_holds(BOOK, 0, value, ()), False)
+            self.assertIs(fewest_holds(BOOK, 0, ((0, 0), (1, 0)), value), False)
 
-    def test_tails_are_asked_of_the_whole_book_and_by_normal_alone(self):
-        self.refuse(1, normal, {"book": NO_TAILS, "task": 2})
+    def test_tails_are_asked_of_the_whole_book(self):
+        for call in (normal, needless, fewest):
+            self.refuse(1, call, {"book": NO_TAILS, "task": 2})
         self.assertIs(accepts(NO_TAILS, 0, (((True,),), ())), False)
 
     def test_task_goes_by_the_book_and_state_by_the_world(self):

@@ -28,6 +28,13 @@ FUNCTIONS = {
     },
     "counting": {"ways": ["book", "world", "task", "state", "wanted", "deeds"]},
     "machines": {"accepts": ["book", "task", "string"], "normal": ["book", "task"]},
+    "comparing": {name: ["first", "task", "second", "other"] for name in ("same", "apart", "within")},
+    "reducing": {
+        "needless": ["book", "task"],
+        "fewest": ["book", "task"],
+        "fewest_holds": ["book", "task", "kept", "proofs"],
+    },
+    "texts": {"printed": ["value"], "parse": ["text"]},
 }
 
 CLASSES = {
@@ -88,7 +95,16 @@ class TestInterface(unittest.TestCase):
     def test_len_stands_in_world(self):
         self.assertIn("__len__", vars(importlib.import_module("methodworlds.worlds").World))
 
+    def test_console(self):
+        self.assertIn("Console", defined("console", ast.ClassDef))
+        members = vars(importlib.import_module("methodworlds.console").Console)
+        for name, arguments in (("run", ["self", "command"]), ("log", ["self"])):
+            self.assertTrue(inspect.isfunction(members[name]))
+            self.assertEqual(list(inspect.signature(members[name]).parameters), arguments)
+        self.assertIsInstance(members["replayed"], (staticmethod, classmethod))
+        found = importlib.import_module("methodworlds.console").Console
+        self.assertEqual(list(inspect.signature(found.replayed).parameters), ["log"])
+        self.assertEqual(list(inspect.signature(found).parameters), [])
+
     def test_package_has_an_init_file(self):
         self.assertTrue((PACKAGE / "__init__.py").is_file())
-
-

@@ -7,27 +7,13 @@ from random import Random
 from methodworlds.books import Book, is_tails
 from methodworlds.errors import BadValue, TooMany
 from methodworlds.machines import accepts, normal
+from tests.large import chain, levels
 from tests.reference import (
     as_lists, deed, every_string, is_normal, is_plain, machine_accepts, method, random_string, random_tails,
     same_strings, slow_sets, tails_cases, task,
 )
 
 LONE = (((False, (None,)),),)
-
-
-def levels(*told, facts=0, first=None):
-    """A book of tasks, each with so many methods that begin with the next task, and so many with a deed alone."""
-    tasks = [] if first is None else [first]
-    for many, alone in told:
-        lower = task(len(tasks) + 1)
-        tasks.append([*[method(lower, deed(at)) for at in range(many)], *[method(deed(at)) for at in range(alone)]])
-    return Book(facts, 5, tasks)
-
-
-def chain(*told, last=()):
-    """A book in which each task has one method: words of the numbers of tasks, and d for a deed."""
-    tasks = [(method(*[deed(0) if sign == "d" else task(int(sign)) for sign in word]),) for word in told]
-    return Book(0, 2, (*tasks, *last))
 
 
 class TestNormal(unittest.TestCase):
